@@ -35,7 +35,7 @@ func squareRoot(d int, a exact) float64 {
 // anyRoot takes a number other than 0, and n from 2 on.
 func anyRoot(d int, a exact, n int) float64 {
 	whole, exp := stretched(a, n)
-	head, more := wholeRoot(whole, n)
+	head, more := wholeRoot(whole, n, guess(whole, n))
 	return rounded[float64](d, a.neg, marked(head, more), exp-1)
 }
 
@@ -46,19 +46,22 @@ type fence struct {
 }
 
 // wholeRoot tells the greatest number whose n-th power is at most a, and whether that is less. The
-// root has rootBits bits.
-func wholeRoot(a []uint32, n int) (root uint64, more bool) {
+// root has rootBits bits. It is found whatever near is, and soon, if it is not 8 away from the root.
+func wholeRoot(a []uint32, n int, near uint64) (root uint64, more bool) {
 	f := fence{1<<(rootBits-1) - 1, 1 << rootBits, true}
-	near := guess(a, n)
-	f = f.narrowed(near-4, a, n)
-	f = f.narrowed(near+4, a, n)
-	for f.low+1 < f.high { // three times, if the guess was near; if not, it is found all the same
+	f = f.narrowed(near-8, a, n)
+	f = f.narrowed(near+8, a, n)
+	for f.low+1 < f.high {
 		f = f.narrowed(f.low+(f.high-f.low)/2, a, n)
 	}
 	return f.low, f.more
 }
 
+// narrowed puts one side of the fence to probe, unless that lies outside.
 func (f fence) narrowed(probe uint64, a []uint32, n int) fence {
+	if probe <= f.low || probe >= f.high {
+		return f
+	}
 	power, _ := nat.Pow(nat.Small(probe), n)
 	c := nat.Cmp(power, a)
 	if c > 0 {
@@ -67,7 +70,8 @@ func (f fence) narrowed(probe uint64, a []uint32, n int) fence {
 	return fence{probe, f.high, c < 0}
 }
 
-// guess tells about what wholeRoot tells; no answer hangs on how near it is.
+// guess tells a number near to what wholeRoot tells: 4 away at most, as far as was seen; no answer
+// hangs on that.
 func guess(a []uint32, n int) uint64 {
 	head, shift := leading(a)
 	scaled := math.Ldexp(float64(head), shift-(rootBits-1)*n)
